@@ -1,0 +1,1 @@
+"""Owned boxes, moved, looked at and lent, and which bars may be left out together."""
