@@ -2,7 +2,7 @@
 
 from itertools import combinations
 
-from ownedborder.designs import WORDS, require_design
+from ownedborder.designs import WORDS, require_design, with_word
 from ownedborder.errors import NotMade
 
 # Each lot with the program that it breaks, ascending.
@@ -108,11 +108,6 @@ def lots_in(design):
     """The lots that a design holds, ascending."""
     require_design(design)
     return tuple([lot for lot in lots() if holds(design, lot)])
-
-
-def with_word(design, word):
-    """A design with one further word."""
-    return tuple(sorted(design + (word,)))
 
 
 def further_words(design):

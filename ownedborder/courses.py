@@ -5,12 +5,13 @@ from ownedborder.stores import Store, do, is_race
 
 
 class Course:
-    """pairs: the deeds of both hands for each statement; part: the statement it is at;
-    done: how many deeds of it each hand has done; why: the word of what went wrong.
+    """words: the design; pairs: the deeds of both hands for each statement; part: the
+    statement it is at; done: how many deeds of it each hand has done; why: the word of
+    what went wrong.
     """
 
     def __init__(self, design, pairs, part, done, store, why):
-        self.design = design
+        self.words = design
         self.pairs = pairs
         self.part = part
         self.done = done
@@ -31,7 +32,7 @@ class Course:
 
     def advance(self, hand):
         """Do the next deed of a hand."""
-        self.why = do(self.design, self.store, self.next_deed(hand))
+        self.why = do(self.words, self.store, self.next_deed(hand))
         first, second = self.done
         self.done = (first + 1, second) if hand == 0 else (first, second + 1)
 
@@ -53,7 +54,7 @@ class Course:
     def picked(self, hand):
         """The course that comes of this one by a pick, as far as the next one."""
         store = self.store.copied()
-        after = Course(self.design, self.pairs, self.part, self.done, store, self.why)
+        after = Course(self.words, self.pairs, self.part, self.done, store, self.why)
         after.advance(hand)
         after.go_on()
         return after

@@ -34,3 +34,13 @@ def require_design(value):
     """Raise BadDesign if the value is no design."""
     if not is_design(value):
         raise BadDesign("no design")
+
+
+def with_word(design, word):
+    """A design with one further word."""
+    return tuple(sorted(design + (word,)))
+
+
+def without_word(design, word):
+    """A design without one of its words."""
+    return tuple([one for one in design if one != word])

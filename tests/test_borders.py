@@ -9,9 +9,8 @@ from ownedborder.checker import lets_by
 from ownedborder.errors import NotMade
 from ownedborder.runs import run, weavings, wrong_picks
 
-from helper import WORDS, check_design_first
+from helper import WORDS, check_design_first, grown_program
 
-BOX = ("box", 0, 1)
 # The sixteen lots, with the program and the word why of its wrong run.
 LOTS = (
     (("blocks", "far"), "gone",
@@ -199,45 +198,11 @@ class FewestDrops(unittest.TestCase):
 class Soundness(unittest.TestCase):
     """What a greatest sound design lets by does not go wrong, tried with many programs."""
 
-    WORDS_OF_TWO = ("move", "look", "lend", "aim")
-
-    def plain(self, chance, words):
-        word = chance.choice(words)
-        if word in self.WORDS_OF_TWO:
-            return (word, chance.randrange(5), chance.randrange(5))
-        if word in ("box", "set"):
-            return (word, chance.randrange(5), chance.randrange(3))
-        return (word, chance.randrange(5))
-
-    def item(self, chance):
-        every = ("box", "move", "look", "lend", "show", "set", "drop", "end", "aim")
-        kind = chance.randrange(8)
-        if kind < 5:
-            return self.plain(chance, every)
-        if kind < 6:
-            return ("block", tuple(self.plain(chance, every) for _ in range(chance.randrange(4))))
-        bodies = []
-        for _ in range(2):
-            body = [self.plain(chance, every[2:]) for _ in range(chance.randrange(3))]
-            if chance.randrange(2):
-                body.append(("block", (self.plain(chance, every),)))
-            bodies.append(tuple(body))
-        return ("hands", bodies[0], bodies[1])
-
-    def grown(self, chance, design):
-        """A program that the design lets by, of items as they come."""
-        program = (BOX, ("box", 1, 2))
-        for _ in range(60):
-            wider = program + (self.item(chance),)
-            if len(wider) <= 8 and lets_by(design, wider):
-                program = wider
-        return program
-
     def test_no_run_goes_wrong(self):
         chance = random.Random(12)
         for design in greatest_sound(()):
             for _ in range(25):
-                program = self.grown(chance, design)
+                program = grown_program(chance, design, 8)
                 self.assertIsNone(wrong_picks(design, program), (design, program))
                 self.assertEqual({way[0] for way in weavings(design, program)}, {"ends"})
 

@@ -3,9 +3,14 @@
 import unittest
 
 from ownedborder import errors
-from ownedborder.borders import greatest_sound
+from ownedborder.borders import breaker, fewest_drops, greatest_sound, is_sound, lots_in
 from ownedborder.checker import fault, known, lets_by
+from ownedborder.compares import lets_by_all, parting, strengths
+from ownedborder.designs import is_design
+from ownedborder.desks import Desk
+from ownedborder.programs import is_program
 from ownedborder.runs import run, weavings, wrong_picks
+from ownedborder.texts import read_program, write_program
 
 KINDS = (
     "BadProgram", "BadDesign", "BadPicks", "NotMade", "NotText", "InvalidText", "NotNow", "NothingToUndo",
@@ -42,7 +47,7 @@ class Order(unittest.TestCase):
     """If several errors apply, the one of the argument that stands first is raised."""
 
     def test_design_ahead_of_program(self):
-        for call in (fault, lets_by, known, weavings, wrong_picks):
+        for call in (fault, lets_by, known, weavings, wrong_picks, Desk):
             with self.assertRaises(errors.BadDesign):
                 call(("fly",), None)
             with self.assertRaises(errors.BadDesign):
@@ -98,14 +103,40 @@ class Arguments(unittest.TestCase):
 
     def test_wrong_arguments_stay(self):
         design, program, picks = ["set"], [["box", 0, 1]], [0]
-        for call in (fault, lets_by, known, weavings, wrong_picks):
+        for call in (fault, lets_by, known, weavings, wrong_picks, Desk):
             with self.assertRaises(errors.BadDesign):
                 call(design, program)
             with self.assertRaises(errors.BadProgram):
                 call((), program)
         with self.assertRaises(errors.BadPicks):
             run((), (), picks)
+        for call in (breaker, fewest_drops, greatest_sound, is_sound, lots_in, strengths):
+            with self.assertRaises(errors.BadDesign):
+                call(design)
+        for call in (lets_by_all, parting):
+            with self.assertRaises(errors.BadDesign):
+                call(design, ())
+            with self.assertRaises(errors.BadDesign):
+                call((), design)
+        with self.assertRaises(errors.BadProgram):
+            write_program(program)
+        with self.assertRaises(errors.NotText):
+            read_program(program)
+        with self.assertRaises(errors.NotText):
+            Desk((), ()).run(design)
+        self.assertEqual((is_design(design), is_program(program)), (False, False))
         self.assertEqual((design, program, picks), (["set"], [["box", 0, 1]], [0]))
+
+    def test_a_desk_as_an_argument_stays(self):
+        desk = Desk(("set",), BARRED)
+        desk.run("permit drop")
+        for call in (strengths, is_sound, write_program, read_program, desk.run):
+            with self.assertRaises(errors.OwnError):
+                call(desk)
+        self.assertEqual((is_design(desk), is_program(desk)), (False, False))
+        self.assertEqual(desk.design, ("drop", "set"))
+        desk.undo()
+        self.assertEqual(desk.design, ("set",))
 
     def test_calls_do_not_depend_on_earlier_ones(self):
         design = ("blocks", "hands", "set")
